@@ -1,0 +1,1 @@
+"""Trickproof: a table of tricks, counted with open cards."""
