@@ -35,6 +35,12 @@ def nodes(kind):
     return [(path, node) for path, tree in trees() for node in ast.walk(tree) if isinstance(node, kind)]
 
 
+def defined_in(tree):
+    """The names that a file's top defines itself."""
+    names = {node.name for node in tree.body if isinstance(node, (ast.FunctionDef, ast.ClassDef))}
+    return names | {target.id for node in tree.body if isinstance(node, ast.Assign) for target in node.targets}
+
+
 def where(path, node):
     return f"{path.name}:{node.lineno}"
 
@@ -108,6 +114,37 @@ class FormTest(unittest.TestCase):
         for path, node in nodes(ast.Call):
             if isinstance(node.func, ast.Attribute):
                 self.assertIn(node.func.attr, METHODS | own, where(path, node))
+
+    def test_no_name_is_a_method_and_a_value(self):
+        methods = {node.name for path, owner in nodes(ast.ClassDef) for node in owner.body
+                   if isinstance(node, ast.FunctionDef)}
+        values = {node.attr for path, node in nodes(ast.Attribute) if isinstance(node.ctx, ast.Store)}
+        self.assertFalse(methods & values)
+
+    def test_no_local_is_called_like_a_class_or_an_import(self):
+        for path, tree in trees():
+            taken = {node.name for node in tree.body if isinstance(node, ast.ClassDef)}
+            taken |= {name.name for node in tree.body if isinstance(node, ast.ImportFrom) for name in node.names}
+            for node in ast.walk(tree):
+                if isinstance(node, ast.arg):
+                    self.assertNotIn(node.arg, taken, where(path, node))
+                if isinstance(node, ast.Name) and isinstance(node.ctx, ast.Store):
+                    self.assertNotIn(node.id, taken, where(path, node))
+
+    def test_names_are_drawn_from_the_file_that_defines_them(self):
+        defined = {path.stem: defined_in(tree) for path, tree in trees()}
+        for path, node in nodes(ast.ImportFrom):
+            for name in node.names:
+                self.assertIn(name.name, defined[node.module.split(".")[1]], where(path, node))
+
+    def test_no_two_files_draw_from_one_another(self):
+        drawn = {path.stem: {node.module.split(".")[1] for node in tree.body if isinstance(node, ast.ImportFrom)}
+                 for path, tree in trees()}
+        while drawn:
+            free = [name for name, others in drawn.items() if not others & set(drawn)]
+            self.assertTrue(free, sorted(drawn))
+            for name in free:
+                drawn.pop(name)
 
 
 if __name__ == "__main__":

@@ -4,16 +4,12 @@ import itertools
 import re
 import unittest
 
+from tests.helper import NO_TEXTS, RefusalCase, bits
 from trickproof.errors import NoCard, NoDeal, NoHand
 from trickproof.packs import card_text, deal_text, hand_text, read_card, read_deal, read_hand
 
 CARD_TEXTS = [letter + figure for letter in "abcd" for figure in "12345678"]
-NO_TEXTS = [0, 1, 31, -1, 10 ** 59, None, True, False, [], ["a1"], ["a", "1"], (), ("a1",), ("a", "1"), {}]
 RISING = "1?2?3?4?5?6?7?8?"
-
-
-def bits(*cards):
-    return sum(2 ** card for card in cards)
 
 
 def is_hand_text(text):
@@ -23,14 +19,6 @@ def is_hand_text(text):
     words = [f"{letter}(?=[1-8]){RISING}" for letter in "abcd"]
     pattern = "".join(f"( {word})?" for word in words)
     return text != "" and re.fullmatch(pattern, " " + text) is not None
-
-
-class RefusalCase(unittest.TestCase):
-    def assert_refused(self, refusal, read, thing):
-        with self.subTest(repr(thing)):
-            with self.assertRaises(ValueError) as caught:
-                read(thing)
-            self.assertIs(type(caught.exception), refusal)
 
 
 class CardTest(RefusalCase):
