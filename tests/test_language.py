@@ -89,6 +89,23 @@ class FormTest(unittest.TestCase):
             if isinstance(node, ast.Constant):
                 self.assertNotIsInstance(node.value, (float, complex, bytes), where(path, node))
 
+    def test_comprehensions(self):
+        for path, node in nodes(ast.ListComp):
+            self.assertEqual(len(node.generators), 1, where(path, node))
+            self.assertLessEqual(len(node.generators[0].ifs), 1, where(path, node))
+
+    def test_is_stands_beside_none_true_and_false(self):
+        for path, node in nodes(ast.Compare):
+            for sign, other in zip(node.ops, node.comparators):
+                if isinstance(sign, (ast.Is, ast.IsNot)):
+                    self.assertIsInstance(other, ast.Constant, where(path, node))
+                    self.assertIn(other.value, (None, True, False), where(path, node))
+
+    def test_no_power_without_a_written_exponent(self):
+        for path, node in nodes(ast.BinOp):
+            if isinstance(node.op, ast.Pow):
+                self.assertIsInstance(node.right, ast.Constant, where(path, node))
+
     def test_imports(self):
         for path, tree in trees():
             for node in tree.body:
