@@ -3,31 +3,13 @@
 import copy
 import unittest
 
-from tests.helper import (DUTY_WORDS, RefusalCase, behind_by_words, game_of, moves_by_words, place_of, seeded,
-                          some_game, some_place)
+from tests.helper import (DUTY_WORDS, RefusalCase, count_by_words, game_of, place_of, seeded, some_game, some_place,
+                          told_by_words)
 from trickproof.counts import best, count, told
 from trickproof.errors import TooMany
 from trickproof.places import is_place, left
 
 FINESSE = place_of("a1 b1 / a3 b2 / a2 a4 / b3 b4")
-
-
-def told_by_words(game, place, side):
-    """The pairs by the words of the document: all ways of playing on, each gone through anew."""
-    pairs = []
-    for card in moves_by_words(game, place) if any(place[0]) else []:
-        behind, taker = behind_by_words(game, place, card)
-        won = taker is not None and side // 2 ** taker % 2 == 1
-        pairs.append((card, count_by_words(game, behind, side) + won))
-    return pairs
-
-
-def count_by_words(game, place, side):
-    numbers = [number for card, number in told_by_words(game, place, side)]
-    if not numbers:
-        return 0
-    seat = (place[1] + len(place[2])) % len(place[0])
-    return max(numbers) if side // 2 ** seat % 2 == 1 else min(numbers)
 
 
 def asked(game, place, side):

@@ -3,27 +3,10 @@
 import copy
 import unittest
 
-from tests.helper import (DUTY_WORDS, behind_by_words, cards_of, game_of, moves_by_words, place_of, read_cards, seeded,
-                          some_game, some_place)
+from tests.helper import (DUTY_WORDS, behind_by_words, cards_of, game_of, is_place_by_words, moves_by_words, place_of,
+                          read_cards, seeded, some_game, some_place)
 from trickproof.packs import read_deal
 from trickproof.places import behind, is_place, left, moves, turn_at
-
-
-def is_place_by_words(game, place):
-    """What a place is by the words of the document, over lists of cards."""
-    hands, lead, trick = place
-    seats = game.table.seats
-    if len(hands) != seats or len(trick) >= seats or lead not in range(seats):
-        return False
-    everywhere = [card for hand in hands for card in cards_of(hand)] + list(trick)
-    if len(set(everywhere)) != len(everywhere):
-        return False
-    if any(card // 8 >= game.table.suits or card % 8 >= game.table.heights for card in everywhere):
-        return False
-    sizes = [len(cards_of(hand)) for hand in hands]
-    for number in range(len(trick)):
-        sizes[(lead + number) % seats] += 1
-    return len(set(sizes)) == 1
 
 
 class IsPlaceTest(unittest.TestCase):
